@@ -1,0 +1,1 @@
+"""Leafpages: search trees laid out in pages."""

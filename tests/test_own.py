@@ -1,0 +1,133 @@
+"""Points 1 and 2, for all of the program: nothing handed in is changed, what is told is the asker's own."""
+
+import copy
+import random
+import unittest
+
+import helper
+from leafpages import layouts, marks, trees
+from leafpages.errors import LeafError
+
+TREE = helper.drawn_tree(list(range(-9, 12)), random.Random(8))
+KEYS = helper.plain_keys(TREE)
+ROOM = 4
+LAYOUT = [[]] + helper.drawn_joined_layout(TREE, ROOM, random.Random(9)) + [[]]
+TABLE = [(key,) + mark for key, mark in sorted(helper.plain_marks(TREE, ROOM).items())]
+WEIGHTS = [3 * place for place in range(len(KEYS))]
+FULL_TREE = helper.low_tree(list(range(60)))
+
+CALLS = (
+    (trees.is_tree, (TREE,)),
+    (trees.is_tree, ([None, [1], {2: [3]}],)),
+    (trees.is_tree, ((None, [1], None),)),
+    (trees.tree_of, (KEYS[::2] + KEYS[1::2],)),
+    (trees.tree_of, (KEYS + [0],)),
+    (trees.keys_of, (TREE,)),
+    (trees.way_to, (TREE, KEYS[5])),
+    (trees.way_to, (TREE, 99)),
+    (trees.height, (TREE,)),
+    (trees.put, (TREE, 99)),
+    (trees.put, (TREE, KEYS[3])),
+    (trees.put, (FULL_TREE, 60)),
+    (trees.taken, (TREE, TREE[1])),
+    (trees.taken, (TREE, 99)),
+    (trees.up_of, (TREE, KEYS[7])),
+    (trees.below, (TREE, TREE[1])),
+    (trees.mirrored, (TREE,)),
+    (layouts.fault, (TREE, ROOM, LAYOUT)),
+    (layouts.fault, (TREE, 1, LAYOUT)),
+    (layouts.fault, (TREE, ROOM, [[1, 99], [1]])),
+    (layouts.fault, (TREE, ROOM, [[1, 2], [1]])),
+    (layouts.fault, (TREE, ROOM, [[1, 2], []])),
+    (layouts.first_parted, (TREE, LAYOUT)),
+    (layouts.first_parted, (TREE, [KEYS[::2], KEYS[1::2]])),
+    (layouts.pages_met, (TREE, LAYOUT, KEYS[-1])),
+    (layouts.page_turns, (TREE, LAYOUT, KEYS[-1])),
+    (layouts.worst, (TREE, LAYOUT)),
+    (layouts.cost, (TREE, LAYOUT, WEIGHTS)),
+    (layouts.together, (ROOM, LAYOUT)),
+    (layouts.together, (1, [[1], [], [2]])),
+    (layouts.together, (60, [[1], [], [2]])),
+    (marks.marks, (TREE, ROOM)),
+    (marks.by_marks, (TREE, ROOM)),
+    (marks.by_marks, (TREE, 1)),
+    (marks.shows_worst, (TREE, ROOM, TABLE, 1)),
+    (marks.shows_worst, (TREE, ROOM, TABLE[::-1], 1)),
+)
+
+
+def answer(call, handed):
+    try:
+        return call(*handed)
+    except LeafError as refusal:
+        return type(refusal)
+
+
+def spoil(thing):
+    """Changes every list within, the inner ones too."""
+    if isinstance(thing, (list, tuple)):
+        for inner in thing:
+            spoil(inner)
+    if isinstance(thing, list):
+        thing.insert(0, 12345)
+        thing.append(-12345)
+
+
+class Own(unittest.TestCase):
+    def test_what_is_handed_in_stays_as_it_is(self):
+        for call, handed in CALLS:
+            kept = copy.deepcopy(handed)
+            answer(call, handed)
+            self.assertEqual(handed, kept, call)
+
+    def test_what_was_told_changes_no_later_answer_when_it_is_changed(self):
+        for call, handed in CALLS:
+            handed = copy.deepcopy(handed)
+            kept = copy.deepcopy(handed)
+            told = answer(call, handed)
+            first = copy.deepcopy(told)
+            spoil(told)
+            self.assertEqual(handed, kept, call)
+            self.assertEqual(answer(call, handed), first, call)
+
+    def test_what_was_handed_in_changes_no_answer_when_it_is_changed_later(self):
+        for call, handed in CALLS:
+            changed = copy.deepcopy(handed)
+            told = answer(call, changed)
+            first = copy.deepcopy(told)
+            spoil(changed)
+            self.assertEqual(told, first, call)
+            self.assertEqual(answer(call, copy.deepcopy(handed)), first, call)
+
+    def test_a_list_changed_behind_a_call_is_asked_as_it_is_then(self):
+        layout = [[1], [2]]
+        tree = (None, 1, (None, 2, None))
+        self.assertEqual(layouts.worst(tree, layout), 2)
+        self.assertEqual(layouts.together(2, layout), [[1, 2]])
+        layout[0].append(layout.pop()[0])
+        self.assertEqual(layouts.worst(tree, layout), 1)
+        keys = [1, 2]
+        self.assertEqual(trees.tree_of(keys), tree)
+        keys.reverse()
+        self.assertEqual(trees.tree_of(keys), ((None, 1, None), 2, None))
+
+    def test_told_lists_are_not_lists_told_before(self):
+        for call, handed in CALLS:
+            first = answer(call, handed)
+            if isinstance(first, list):
+                again = answer(call, handed)
+                self.assertIsNot(again, first, call)
+                ids = {id(inner) for inner in first if isinstance(inner, list)}
+                self.assertFalse(ids & {id(inner) for inner in again if isinstance(inner, list)}, call)
+
+    def test_asked_again_in_another_order_all_is_told_alike(self):
+        told = [answer(call, handed) for call, handed in CALLS]
+        again = [answer(call, handed) for call, handed in reversed(CALLS)]
+        self.assertEqual(told, again[::-1])
+
+    def test_truths_are_no_whole_numbers(self):
+        for truth in (True, False):
+            self.assertIs(trees.is_tree((None, truth, None)), False)
+            self.assertIs(trees.is_tree((None, -1, (None, truth, None))), False)
+        self.assertIs(trees.is_tree((None, 1, None)), True)
+        self.assertIs(trees.is_tree((None, 0, None)), True)
