@@ -1,6 +1,6 @@
 """Layouts: lists of pages, a page a list of keys of a tree."""
 
-from leafpages.trees import keys_of, up_of, way_to
+from leafpages.trees import keys_of, up_of, way_to, with_kids
 
 
 def page_numbers(layout):
@@ -53,6 +53,18 @@ def first_parted(tree, layout):
         if page and not is_joined(tree, page):
             return number
     return None
+
+
+def pages_tied(tree, tied):
+    # In one page, just the knots that lead to one another by steps from an up to a kid that is tied to it.
+    pages = {}
+    for key, kids in with_kids(tree):
+        page = [key]
+        for kid in kids:
+            if kid in tied:
+                page.extend(pages.pop(kid))
+        pages[key] = page
+    return sorted([sorted(page) for page in pages.values()])
 
 
 def numbers_along(tree, layout, key):

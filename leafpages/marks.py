@@ -1,5 +1,6 @@
 """Marks: the joined layout whose worst way meets fewest pages, and tables that show it."""
 
+from leafpages.layouts import pages_tied
 from leafpages.trees import keys_of, with_kids
 
 
@@ -23,20 +24,16 @@ def marks(tree, room):
     return [(key, told[key][0], told[key][1]) for key in keys_of(tree)]
 
 
-def tied_kids(told, key, kids):
+def tied_kids(tree, told):
     # A knot has the level of its greatest kids just where they are tied to it, else a higher one.
-    return [kid for kid in kids if told[kid][0] == told[key][0]]
+    tied = []
+    for key, kids in with_kids(tree):
+        tied.extend([kid for kid in kids if told[kid][0] == told[key][0]])
+    return tied
 
 
 def by_marks(tree, room):
-    told = marks_by_key(tree, room)
-    pages = {}
-    for key, kids in with_kids(tree):
-        page = [key]
-        for kid in tied_kids(told, key, kids):
-            page.extend(pages.pop(kid))
-        pages[key] = page
-    return sorted([sorted(page) for page in pages.values()])
+    return pages_tied(tree, tied_kids(tree, marks_by_key(tree, room)))
 
 
 def shows_worst(tree, room, table, number):

@@ -41,15 +41,38 @@ def plain_way(tree, key):
     return way
 
 
+def plain_way_towards(tree, key):
+    """The way to a key that may not be there: the knots that no other key of the tree parts from it."""
+    way = []
+    for knot, left, right, up in knots(tree):
+        low, high = min(knot, key), max(knot, key)
+        if not any(low <= other <= high for other in way):
+            way.append(knot)
+    return way
+
+
+def plain_below(tree, key):
+    left, right = [(found[1], found[2]) for found in knots(tree) if found[0] == key][0]
+    return plain_keys(left) + plain_keys(right)
+
+
+def plain_apart(tree, keys):
+    """Whether none of these keys of the tree is, or stands below, another one."""
+    return all(one != other and one not in plain_way(tree, other) and other not in plain_way(tree, one)
+               for one, other in itertools.combinations(keys, 2))
+
+
 def plain_page(layout, key):
     return [number for number, page in enumerate(layout) if key in page][0]
 
 
+def plain_counts(tree, layout):
+    """For each key how many pages its way meets."""
+    return {key: len({plain_page(layout, knot) for knot in plain_way(tree, key)}) for key in plain_keys(tree)}
+
+
 def plain_worst(tree, layout):
-    counts = [0]
-    for key in plain_keys(tree):
-        counts.append(len({plain_page(layout, knot) for knot in plain_way(tree, key)}))
-    return max(counts)
+    return max(plain_counts(tree, layout).values(), default=0)
 
 
 def plain_made(told, kids, room):
@@ -172,6 +195,12 @@ def drawn_keys(count, draw):
         edge = 10 ** draw.choice((1, 2, 5, 19, 40, 60))
         keys.add(draw.randrange(-edge + 1, edge))
     return sorted(keys)
+
+
+def drawn_weights(count, draw):
+    """Weights of none to sixty figures, 0 among them."""
+    return [draw.choice((0, 1, 2, 7, 10 ** 60 - 1, draw.randrange(100), draw.randrange(10 ** 60)))
+            for place in range(count)]
 
 
 def many_trees():

@@ -113,6 +113,37 @@ class Names(unittest.TestCase):
                 self.assertIn(name.name, defined, where)
                 self.assertIsNone(name.asname, where)
 
+    def test_no_two_files_draw_from_one_another(self):
+        drawn = {path.stem: set() for path in sources()}
+        for where, node in nodes(ast.ImportFrom):
+            drawn[where[:-3]].add(node.module.split(".")[1])
+        while drawn:
+            free = [name for name in drawn if not drawn[name] & set(drawn)]
+            self.assertTrue(free, drawn)
+            drawn = {name: drawn[name] for name in drawn if name not in free}
+
+    def test_no_parameter_or_local_is_called_like_an_import_or_a_class_of_its_file(self):
+        for path in sources():
+            source = ast.parse(path.read_text(encoding="utf-8"))
+            taken = {node.name for node in ast.walk(source) if isinstance(node, (ast.alias, ast.ClassDef))}
+            for node in ast.walk(source):
+                if isinstance(node, ast.arg):
+                    self.assertNotIn(node.arg, taken, (path.name, node.lineno))
+                if isinstance(node, ast.Name) and isinstance(node.ctx, ast.Store):
+                    self.assertNotIn(node.id, taken, (path.name, node.lineno))
+
+    def test_a_name_is_bound_once_at_a_files_top(self):
+        for path in sources():
+            names = []
+            for part in ast.parse(path.read_text(encoding="utf-8")).body:
+                if isinstance(part, (ast.FunctionDef, ast.ClassDef)):
+                    names.append(part.name)
+                elif isinstance(part, ast.ImportFrom):
+                    names += [name.name for name in part.names]
+                elif isinstance(part, ast.Assign):
+                    names.append(part.targets[0].id)
+            self.assertEqual(len(names), len(set(names)), path.name)
+
     def test_no_name_of_pythons_own_but_those_listed(self):
         for where, node in nodes(ast.Name):
             if hasattr(builtins, node.id):

@@ -5,7 +5,7 @@ import random
 import unittest
 
 import helper
-from leafpages import layouts, marks, trees
+from leafpages import belows, halves, layouts, marks, store, trees, weights
 from leafpages.errors import LeafError
 
 TREE = helper.drawn_tree(list(range(-9, 12)), random.Random(8))
@@ -14,6 +14,10 @@ ROOM = 4
 LAYOUT = [[]] + helper.drawn_joined_layout(TREE, ROOM, random.Random(9)) + [[]]
 TABLE = [(key,) + mark for key, mark in sorted(helper.plain_marks(TREE, ROOM).items())]
 WEIGHTS = [3 * place for place in range(len(KEYS))]
+COSTS = weights.cheapest(TREE, ROOM, WEIGHTS)[2]
+ORDER = halves.by_halves(TREE)
+PAPER = belows.from_below(TREE, ROOM)
+TOP, PAGES = store.stored(TREE, LAYOUT)
 FULL_TREE = helper.low_tree(list(range(60)))
 
 CALLS = (
@@ -53,6 +57,28 @@ CALLS = (
     (marks.by_marks, (TREE, 1)),
     (marks.shows_worst, (TREE, ROOM, TABLE, 1)),
     (marks.shows_worst, (TREE, ROOM, TABLE[::-1], 1)),
+    (weights.burden, (TREE, WEIGHTS, TREE[1])),
+    (weights.cheapest, (TREE, ROOM, WEIGHTS)),
+    (weights.cheapest, (TREE, 1, WEIGHTS)),
+    (weights.cheapest, (None, ROOM, [])),
+    (weights.shows_cost, (TREE, ROOM, WEIGHTS, COSTS, 1)),
+    (weights.shows_cost, (TREE, ROOM, WEIGHTS, COSTS[::-1], 1)),
+    (halves.by_halves, (TREE,)),
+    (halves.cut, (ORDER, 5, 2)),
+    (halves.cut, (ORDER, 60, 0)),
+    (halves.cut, ([], 60, 0)),
+    (halves.pieces, (TREE, 3)),
+    (halves.pieces, (TREE, 60)),
+    (halves.most_pieces, (17, 5)),
+    (belows.number_of, (PAPER,)),
+    (belows.holds, (TREE, ROOM, PAPER)),
+    (belows.holds, (TREE, ROOM, ("part", 99, (PAPER,) * ROOM))),
+    (belows.from_below, (TREE, ROOM)),
+    (belows.led, (TREE, LAYOUT, PAPER)),
+    (store.stored, (TREE, LAYOUT)),
+    (store.looked_up, (PAGES.__getitem__, TOP, KEYS[4])),
+    (store.nearest, (PAGES.__getitem__, TOP, 99)),
+    (store.between, (PAGES.__getitem__, TOP, KEYS[4], 99)),
 )
 
 
@@ -71,6 +97,15 @@ def spoil(thing):
     if isinstance(thing, list):
         thing.insert(0, 12345)
         thing.append(-12345)
+
+
+def lists_within(thing):
+    """The list itself, where it is one, and every list within."""
+    found = [thing] if isinstance(thing, list) else []
+    if isinstance(thing, (list, tuple)):
+        for inner in thing:
+            found += lists_within(inner)
+    return found
 
 
 class Own(unittest.TestCase):
@@ -111,14 +146,12 @@ class Own(unittest.TestCase):
         keys.reverse()
         self.assertEqual(trees.tree_of(keys), ((None, 1, None), 2, None))
 
-    def test_told_lists_are_not_lists_told_before(self):
+    def test_told_lists_are_neither_lists_told_before_nor_lists_handed_in(self):
         for call, handed in CALLS:
-            first = answer(call, handed)
-            if isinstance(first, list):
-                again = answer(call, handed)
-                self.assertIsNot(again, first, call)
-                ids = {id(inner) for inner in first if isinstance(inner, list)}
-                self.assertFalse(ids & {id(inner) for inner in again if isinstance(inner, list)}, call)
+            first = lists_within(answer(call, handed))
+            others = lists_within(answer(call, handed)) + lists_within(handed) + lists_within((PAGES, LAYOUT))
+            self.assertFalse({id(one) for one in first} & {id(other) for other in others}, call)
+            self.assertEqual(len({id(one) for one in first}), len(first), call)
 
     def test_asked_again_in_another_order_all_is_told_alike(self):
         told = [answer(call, handed) for call, handed in CALLS]
