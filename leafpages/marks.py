@@ -24,16 +24,25 @@ def marks(tree, room):
     return [(key, told[key][0], told[key][1]) for key in keys_of(tree)]
 
 
-def tied_kids(tree, told):
+def tied_pairs(tree, told):
     # A knot has the level of its greatest kids just where they are tied to it, else a higher one.
-    tied = []
+    pairs = []
     for key, kids in with_kids(tree):
-        tied.extend([kid for kid in kids if told[kid][0] == told[key][0]])
-    return tied
+        pairs.extend([(key, kid) for kid in kids if told[kid][0] == told[key][0]])
+    return pairs
 
 
 def by_marks(tree, room):
-    return pages_tied(tree, tied_kids(tree, marks_by_key(tree, room)))
+    pairs = tied_pairs(tree, marks_by_key(tree, room))
+    return pages_tied(tree, [kid for key, kid in pairs])
+
+
+def top_level(tree, told):
+    return 0 if tree is None else told[tree[1]][0]
+
+
+def worst_by_marks(tree, room):
+    return top_level(tree, marks_by_key(tree, room))
 
 
 def shows_worst(tree, room, table, number):
@@ -45,5 +54,4 @@ def shows_worst(tree, room, table, number):
     for key, kids in with_kids(tree):
         if told[key] > mark_from([told[kid] for kid in kids], room):
             return False
-    top_level = 0 if tree is None else told[tree[1]][0]
-    return number <= top_level
+    return number <= top_level(tree, told)

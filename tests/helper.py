@@ -56,6 +56,40 @@ def plain_below(tree, key):
     return plain_keys(left) + plain_keys(right)
 
 
+def outline(tree):
+    """The keys, each one ahead of those below it: put in so, they make the tree."""
+    return [] if tree is None else [tree[1]] + outline(tree[0]) + outline(tree[2])
+
+
+def from_outline(keys):
+    """The tree of keys put in one behind the other, told from the first one down."""
+    if not keys:
+        return None
+    return (from_outline([key for key in keys if key < keys[0]]), keys[0],
+            from_outline([key for key in keys if key > keys[0]]))
+
+
+def plain_heir(tree, key):
+    """The key that takes the place of a key of the tree when it is taken out, or None where a side does."""
+    left, right = [(found[1], found[2]) for found in knots(tree) if found[0] == key][0]
+    return None if left is None or right is None else min(plain_keys(right))
+
+
+def behind_put(tree, key):
+    return from_outline(outline(tree) + [key])
+
+
+def behind_take(tree, key):
+    keys = outline(tree)
+    heir = plain_heir(tree, key)
+    if heir is None:
+        keys.remove(key)
+    else:
+        keys.remove(heir)
+        keys[keys.index(key)] = heir
+    return from_outline(keys)
+
+
 def plain_apart(tree, keys):
     """Whether none of these keys of the tree is, or stands below, another one."""
     return all(one != other and one not in plain_way(tree, other) and other not in plain_way(tree, one)
@@ -254,3 +288,12 @@ def keys_around(tree):
     for low, high in zip(keys, keys[1:]):
         around.add((low + high) // 2)
     return sorted(around)
+
+
+def put_or_take(shelf, key):
+    """The one of the two deeds that isn't refused; tells its name."""
+    if shelf.has(key):
+        shelf.take(key)
+        return "take"
+    shelf.put(key)
+    return "put"

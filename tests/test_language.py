@@ -93,6 +93,20 @@ class Forms(unittest.TestCase):
                 self.assertEqual(len(node.generators), 1, (where, node.lineno))
                 self.assertLessEqual(len(node.generators[0].ifs), 1, (where, node.lineno))
 
+    def test_functions_have_plain_parameters(self):
+        for where, node in nodes(ast.arguments):
+            self.assertEqual((node.vararg, node.kwarg, node.kwonlyargs, node.posonlyargs), (None, None, [], []), where)
+
+    def test_texts_in_braces_are_plain_names(self):
+        for where, node in nodes(ast.FormattedValue):
+            self.assertIsInstance(node.value, ast.Name, (where, node.lineno))
+            self.assertIsNone(node.format_spec, (where, node.lineno))
+
+    def test_no_stroke_of_hundreds_within_a_text(self):
+        for where, node in nodes(ast.Constant):
+            if isinstance(node.value, str):
+                self.assertNotIn("%", node.value, (where, node.lineno))
+
     def test_is_stands_beside_none_true_and_false_alone(self):
         for where, node in nodes(ast.Compare):
             for op, right in zip(node.ops, node.comparators):
@@ -109,6 +123,7 @@ class Names(unittest.TestCase):
             self.assertRegex(node.module, r"^leafpages\.[a-z]+$", where)
             source = ast.parse((PACKAGE / (node.module.split(".")[1] + ".py")).read_text(encoding="utf-8"))
             defined = [part.name for part in source.body if isinstance(part, (ast.FunctionDef, ast.ClassDef))]
+            defined += [part.targets[0].id for part in source.body if isinstance(part, ast.Assign)]
             for name in node.names:
                 self.assertIn(name.name, defined, where)
                 self.assertIsNone(name.asname, where)
@@ -144,6 +159,37 @@ class Names(unittest.TestCase):
                     names.append(part.targets[0].id)
             self.assertEqual(len(names), len(set(names)), path.name)
 
+    def test_no_name_is_a_method_in_one_class_and_a_value_in_another(self):
+        methods = set()
+        for where, node in nodes(ast.ClassDef):
+            names = [part.name for part in node.body if isinstance(part, ast.FunctionDef)]
+            self.assertEqual(len(names), len(set(names)), (where, node.name))
+            methods |= set(names)
+        for where, node in nodes(ast.Attribute):
+            if isinstance(node.ctx, ast.Store):
+                self.assertNotIn(node.attr, methods, (where, node.lineno))
+                self.assertFalse(any(hasattr(kind, node.attr) for kind in (str, int, list, dict, set, bytes, tuple)),
+                                 (where, node.lineno))
+
+    def test_what_stands_at_a_files_top_is_only_read(self):
+        for path in sources():
+            source = ast.parse(path.read_text(encoding="utf-8"))
+            named = {part.targets[0].id: part.value for part in source.body if isinstance(part, ast.Assign)}
+            for value in named.values():
+                for inner in ast.walk(value):
+                    self.assertFalse(isinstance(inner, (ast.List, ast.Dict)) and inner is not value, path.name)
+            for node in ast.walk(source):
+                if isinstance(node, (ast.Subscript, ast.Attribute)) and isinstance(node.value, ast.Name):
+                    if node.value.id in named:
+                        self.assertIsInstance(node.ctx, ast.Load, (path.name, node.lineno))
+                        self.assertIsInstance(node, ast.Subscript, (path.name, node.lineno))
+
+    def test_a_classs_body_holds_methods_alone(self):
+        for where, node in nodes(ast.ClassDef):
+            self.assertLessEqual(len(node.bases), 1, (where, node.name))
+            for part in node.body:
+                self.assertIsInstance(part, (ast.FunctionDef, ast.Pass), (where, node.name))
+
     def test_no_name_of_pythons_own_but_those_listed(self):
         for where, node in nodes(ast.Name):
             if hasattr(builtins, node.id):
@@ -151,8 +197,9 @@ class Names(unittest.TestCase):
 
     def test_no_name_of_pythons_own_has_another_meaning(self):
         for where, name in bound_names():
-            self.assertFalse(hasattr(builtins, name), (where, name))
-            self.assertRegex(name, r"^(__[a-z]+__|[A-Za-z][A-Za-z0-9_]*)$", where)
+            if name not in ("__init__", "__eq__", "__repr__", "__str__", "__len__"):
+                self.assertFalse(hasattr(builtins, name), (where, name))
+                self.assertRegex(name, r"^[A-Za-z][A-Za-z0-9_]*$", where)
 
     def test_methods_of_pythons_own_are_those_listed(self):
         own = {node.name for where, node in nodes(ast.FunctionDef)}

@@ -5,7 +5,7 @@ import random
 import unittest
 
 import helper
-from leafpages import belows, halves, layouts, marks, store, trees, weights
+from leafpages import belows, halves, layouts, marks, rooms, shelf, store, texts, trees, weights
 from leafpages.errors import LeafError
 
 TREE = helper.drawn_tree(list(range(-9, 12)), random.Random(8))
@@ -79,6 +79,38 @@ CALLS = (
     (store.looked_up, (PAGES.__getitem__, TOP, KEYS[4])),
     (store.nearest, (PAGES.__getitem__, TOP, 99)),
     (store.between, (PAGES.__getitem__, TOP, KEYS[4], 99)),
+    (shelf.ties, (TREE, ROOM)),
+    (shelf.put_ties, (TREE, ROOM, 99)),
+    (shelf.put_ties, (None, ROOM, 99)),
+    (shelf.taken_ties, (TREE, ROOM, TREE[1])),
+    (shelf.taken_ties, ((None, 5, None), ROOM, 5)),
+    (rooms.least_room, (TREE, 3)),
+    (rooms.least_room, (TREE, 60)),
+    (rooms.least_room, (None, 1)),
+    (rooms.least_room, (TREE, 0)),
+    (texts.show_tree, (TREE,)),
+    (texts.show_layout, (LAYOUT,)),
+    (texts.show_layout, ([],)),
+    (texts.read_tree, (texts.show_tree(TREE),)),
+    (texts.read_tree, ("(. 2 (. 1 .))",)),
+    (texts.read_tree, (["."],)),
+    (texts.read_layout, (texts.show_layout(LAYOUT),)),
+    (texts.read_layout, ("",)),
+    (texts.read_layout, ("||",)),
+    (texts.read_layout, ([[1]],)),
+)
+
+INTERFACE = (
+    (trees, "is_tree tree_of keys_of way_to height put taken up_of below mirrored"),
+    (layouts, "fault first_parted pages_met page_turns worst cost together"),
+    (marks, "marks by_marks shows_worst"),
+    (weights, "burden cheapest shows_cost"),
+    (halves, "by_halves cut pieces most_pieces"),
+    (belows, "number_of holds from_below led"),
+    (store, "stored looked_up nearest between"),
+    (shelf, "ties put_ties taken_ties"),
+    (rooms, "least_room"),
+    (texts, "show_tree show_layout read_tree read_layout"),
 )
 
 
@@ -157,6 +189,12 @@ class Own(unittest.TestCase):
         told = [answer(call, handed) for call, handed in CALLS]
         again = [answer(call, handed) for call, handed in reversed(CALLS)]
         self.assertEqual(told, again[::-1])
+
+    def test_every_function_of_the_interface_is_called(self):
+        called = {call for call, handed in CALLS}
+        for module, names in INTERFACE:
+            for name in names.split():
+                self.assertIn(getattr(module, name), called)
 
     def test_truths_are_no_whole_numbers(self):
         for truth in (True, False):
